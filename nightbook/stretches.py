@@ -9,6 +9,11 @@ def is_stretch(thing):
     return is_pair(thing) and 0 <= thing[0] < thing[1] <= NIGHTS
 
 
+def nights_of(stay):
+    # Stays, wishes and groups begin with their nights, whatever else they hold behind.
+    return (stay[0], stay[1])
+
+
 def holds(stretch, night):
     return stretch[0] <= night < stretch[1]
 

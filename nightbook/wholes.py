@@ -1,4 +1,4 @@
-"""What counts as a whole number, and as a tuple of two."""
+"""What counts as a whole number, and as a tuple or a list of some."""
 
 
 def is_whole(thing):
@@ -6,5 +6,21 @@ def is_whole(thing):
     return isinstance(thing, int) and not isinstance(thing, bool)
 
 
+def all_whole(things):
+    return all([is_whole(thing) for thing in things])
+
+
+def is_tuple_of(thing, many):
+    return isinstance(thing, tuple) and len(thing) == many and all_whole(thing)
+
+
 def is_pair(thing):
-    return isinstance(thing, tuple) and len(thing) == 2 and is_whole(thing[0]) and is_whole(thing[1])
+    return is_tuple_of(thing, 2)
+
+
+def is_whole_list(thing):
+    return isinstance(thing, list) and all_whole(thing)
+
+
+def is_rising(numbers):
+    return all([one < other for one, other in zip(numbers, numbers[1:])])

@@ -4,8 +4,12 @@ import copy
 import random
 import unittest
 
-from nightbook.errors import NoNumber
+from nightbook.chances import chance_at, is_ladder, most_alike, rooms_from, tight
+from nightbook.errors import InnError, NoNumber, NoRoom, NoStay, Taken, TooFull
+from nightbook.plans import free_at, is_plan, row_of
 from nightbook.ratios import is_chance, is_ratio, minus, plus, ratio, times, total, under
+from nightbook.reach import is_shut, may_have, rooms_for
+from nightbook.seats import fewest, seated
 from nightbook.stretches import count_at, counts, fuller, holds, is_stretch, meets, most_at_once, shared
 from nightbook.tables import above, comers, least_rooms
 
@@ -13,6 +17,10 @@ STRETCHES = [(8, 9), (0, 3), (4, 6), (3, 5), (3, 5)]
 ROWS = [(2, (1, 3)), (1, (1, 2)), (4, (0, 1)), (1, (1, 1))]
 TABLE = [(1, 3), (0, 1), (5, 2), (1, 6)]
 RATIOS = [(3, 4), (-1, 2), (0, 1)]
+LADDER = [2, 0, 1]
+WISHED = [(0, 3, 1, (1, 2)), (2, 9, 3, (1, 1)), (2, 4, 1, (2, 3))]
+STAYS = [(0, 4, 1), (5, 7, None), (4, 6, None), (3, 5, 0)]
+FULL = [(0, 2, 0), (0, 3, 1), (2, 5, None), (3, 6, None)]
 
 ASKS = [
     (ratio, (3, -6)), (ratio, (7,)), (is_ratio, ([1, 2],)), (is_ratio, ((1, 2),)), (is_chance, ((3, 2),)),
@@ -23,8 +31,44 @@ ASKS = [
     (counts, (STRETCHES,)), (counts, ([],)), (fuller, (STRETCHES, 1)), (fuller, (STRETCHES, 0, 6)),
     (fuller, ([], -1)),
     (comers, (ROWS,)), (comers, ([],)), (above, (TABLE, 1)), (above, (TABLE, -1)), (least_rooms, (TABLE, (1, 6))),
+    (most_alike, ((1, 2), 3, (1, 10))), (is_ladder, (LADDER,)), (is_ladder, ([],)), (rooms_from, (LADDER, 2)),
+    (chance_at, (WISHED, 2, 1, LADDER)), (tight, (WISHED, (1, 5, 3, (1, 3)), LADDER, (1, 20))),
+    (tight, (WISHED, (1, 5, 3, (1, 3)), [9, 0, 3], (1, 20))), (tight, ([], (1, 5, 1, (1, 3)), [0], (1, 20))),
+    (seated, (FULL, 2)), (seated, (FULL, 5, 0)), (seated, ([], 0, 3)), (fewest, (STRETCHES,)), (fewest, ([],)),
+    (is_plan, (FULL, 2, 0, [0, 1, 0, 1])), (is_plan, (FULL, 2, 0, [0, 1, 1, 0])), (is_plan, ([], 2, 0, [])),
+    (row_of, (FULL, [0, 1, 0, 1], 1)), (free_at, (FULL, [0, 1, 0, 1], 3, 2)), (row_of, ([], [], 1)),
+    (may_have, (FULL, 2, 0, 3, 0)), (may_have, (FULL, 2, 0, 3, 1)), (may_have, (FULL, 4, 0, 2, 3)),
+    (is_shut, (FULL, 2, 0, 3, 0, [2])), (is_shut, (FULL, 2, 0, 3, 1, [3])), (rooms_for, (FULL, 3, 0, 2)),
+    (rooms_for, (STAYS, 3, 3, 1)),
 ]
-TELL_LISTS = [(counts, (STRETCHES,)), (counts, ([],)), (comers, (ROWS,)), (comers, ([],))]
+REFUSED = [
+    (NoNumber, ratio, (1, 0)), (NoNumber, ratio, ("1", 2)), (NoNumber, ratio, (True,)), (NoNumber, ratio, (1, None)),
+    (NoStay, seated, (STAYS, 3, 4)), (Taken, seated, ([(0, 2, 0), (0, 3, 0)], 2)), (TooFull, seated, ([(1, 2, None)] * 2, 1, 0)),
+    (NoStay, is_plan, (FULL + [None], 2, 0, [0])), (Taken, is_plan, (FULL + [(0, 1, 1)], 2, 0, [])),
+    (NoStay, may_have, (FULL, 2, 0, 0, 0)), (NoRoom, may_have, (FULL, 2, 0, 2, 2)), (NoStay, rooms_for, (FULL, 2, 0, 4)),
+    (NoRoom, is_shut, (FULL, 2, 0, 2, -1, [])), (TooFull, rooms_for, ([(1, 2, None)] * 2, 1, 0, 0)),
+]
+
+
+def lists_in(thing):
+    """All lists and dicts within a thing, those within others first."""
+    found = []
+    if isinstance(thing, (list, tuple)):
+        found = [inner for part in thing for inner in lists_in(part)]
+    if isinstance(thing, dict):
+        found = [inner for part in thing.values() for inner in lists_in(part)]
+    return found + ([thing] if isinstance(thing, (list, dict)) else [])
+
+
+def spoil(thing):
+    for inner in lists_in(thing):
+        if isinstance(inner, dict):
+            inner.clear()
+            inner["other"] = "other"
+        else:
+            inner.reverse()
+            inner.append("more")
+            inner[0] = "other"
 
 
 class AskingTest(unittest.TestCase):
@@ -45,35 +89,33 @@ class AskingTest(unittest.TestCase):
                 self.assertEqual(ask(*things), wanted[place], ask)
 
     def test_what_is_told_is_new_each_time(self):
-        for ask, things in TELL_LISTS:
+        for ask, things in ASKS:
             one, other = ask(*things), ask(*things)
-            self.assertIsNot(one, other)
-            self.assertIsNot(one, things[0])
+            told = lists_in(one)
+            self.assertEqual(len({id(inner) for inner in told}), len(told), ask)
+            for inner in told:
+                for strange in lists_in(other) + lists_in(things):
+                    self.assertIsNot(inner, strange, ask)
 
     def test_a_change_of_what_is_told_changes_nothing(self):
-        for ask, things in TELL_LISTS:
+        for ask, things in ASKS:
             kept = copy.deepcopy(things)
             told = ask(*things)
-            wanted = list(told)
+            wanted = copy.deepcopy(told)
             later = ask(*things)
-            told.reverse()
-            told.append("more")
-            told[0] = "other"
-            self.assertEqual(later, wanted)
-            self.assertEqual(ask(*things), wanted)
-            self.assertEqual(things, kept)
+            spoil(told)
+            self.assertEqual(later, wanted, ask)
+            self.assertEqual(ask(*things), wanted, ask)
+            self.assertEqual(things, kept, ask)
 
     def test_a_change_of_what_was_handed_in_changes_nothing_told(self):
         for ask, things in ASKS:
             own = copy.deepcopy(things)
             told = ask(*own)
             wanted = copy.deepcopy(told)
-            for thing in own:
-                if isinstance(thing, list):
-                    thing.clear()
-                    thing.append("other")
-            self.assertEqual(told, wanted)
-            self.assertEqual(ask(*things), wanted)
+            spoil(own)
+            self.assertEqual(told, wanted, ask)
+            self.assertEqual(ask(*things), wanted, ask)
 
     def test_a_list_handed_in_again_is_read_anew(self):
         stretches = [(0, 3)]
@@ -93,12 +135,16 @@ class AskingTest(unittest.TestCase):
         table[1] = (1, 4)
         self.assertEqual((above(table, 0), least_rooms(table, (1, 4)), total(table)), ((1, 4), 0, (3, 4)))
 
-    def test_a_refusal_changes_nothing(self):
-        for ask, things in ASKS:
-            wanted = ask(*things)
-            for wrong in [(1, 0), ("1", 2), (True,), (1, None)]:
-                self.assertRaises(NoNumber, ratio, *wrong)
-            self.assertEqual(ask(*things), wanted)
+    def test_what_is_refused_stays_and_changes_nothing(self):
+        wanted = [ask(*things) for ask, things in ASKS]
+        for error, call, things in REFUSED:
+            kept = copy.deepcopy(things)
+            for turn in range(2):
+                with self.assertRaises(InnError) as caught:
+                    call(*things)
+                self.assertIs(type(caught.exception), error)
+            self.assertEqual(things, kept, call)
+        self.assertEqual([ask(*things) for ask, things in ASKS], wanted)
 
 
 if __name__ == "__main__":
