@@ -74,3 +74,106 @@ def random_stays(source, rooms, now, many, last, tries=40):
                 held[night] = held.get(night, 0) + 1
     source.shuffle(stays)
     return stays
+
+
+def random_plan(source, stays, rooms, now):
+    """Some plan of stays for which nothing is refused: each one still to come gets any room that is free then."""
+    plan = [stay[2] for stay in stays]
+    since = [beginning(stays, now, room) for room in range(rooms)]
+    coming = [place for place, stay in enumerate(stays) if stay[2] is None]
+    for place in sorted(coming, key=lambda place: stays[place][0]):
+        room = source.choice([room for room in range(rooms) if since[room] <= stays[place][0]])
+        plan[place] = room
+        since[room] = stays[place][1]
+    return plan
+
+
+def is_a_choice(wishes, free, choice):
+    if type(choice) is not list or not all(is_int(place) and 0 <= place < len(wishes) for place in choice):
+        return False
+    held = [sum(night in nights(wishes[place]) for place in choice) for night in range(len(free))]
+    return choice == sorted(set(choice)) and all(one <= many for one, many in zip(held, free))
+
+
+def are_prices(free, prices):
+    if type(prices) is not list:
+        return False
+    for one in prices:
+        if type(one) is not tuple or len(one) != 2 or not is_int(one[0]) or not is_int(one[1]):
+            return False
+    listed = [night for night, price in prices]
+    within = all(0 <= night < len(free) and price >= 1 for night, price in prices)
+    return within and listed == sorted(set(listed))
+
+
+def prices_hold(wishes, free, choice, prices):
+    """All that is promised of a choice and its prices."""
+    if not is_a_choice(wishes, free, choice) or not are_prices(free, prices):
+        return False
+    by_night = dict(prices)
+    for night in by_night:
+        if sum(night in nights(wishes[place]) for place in choice) != free[night]:
+            return False
+    for place, wish in enumerate(wishes):
+        paid = sum(by_night.get(night, 0) for night in nights(wish))
+        if wish[2] < paid if place in choice else wish[2] > paid:
+            return False
+    return True
+
+
+def choices_of(wishes, free):
+    """All choices, by going through all lists of places."""
+    places = range(len(wishes))
+    lists = [[place for place in places if bits >> place & 1] for bits in range(2 ** len(wishes))]
+    return [choice for choice in lists if is_a_choice(wishes, free, choice)]
+
+
+def moves_there_are(rooms, guests):
+    return [(room, other) for room in sorted(guests) for other in range(len(rooms))
+            if other not in guests and rooms[other] >= guests[room]]
+
+
+def moved(guests, move):
+    here = dict(guests)
+    here[move[1]] = here.pop(move[0])
+    return here
+
+
+def has_free(rooms, guests, kind):
+    return any(own >= kind and room not in guests for room, own in enumerate(rooms))
+
+
+def fewest_moves(rooms, guests, kind):
+    """How few moves let somebody in, by going through all rows of moves; None where none do."""
+    states, seen, many = [guests], {tuple(sorted(guests.items()))}, 0
+    while states:
+        if any(has_free(rooms, here, kind) for here in states):
+            return many
+        found = [moved(here, move) for here in states for move in moves_there_are(rooms, here)]
+        states = []
+        for here in found:
+            key = tuple(sorted(here.items()))
+            if key not in seen:
+                seen.add(key)
+                states.append(here)
+        many += 1
+    return None
+
+
+def falls_by_words(rooms, guests, kind):
+    """The list of falling kinds, None where there is none."""
+    falls = [kind]
+    while not has_free(rooms, guests, falls[-1]):
+        wished = [guests[room] for room in guests if rooms[room] >= falls[-1]]
+        if not wished or min(wished) >= falls[-1]:
+            return None
+        falls.append(min(wished))
+    return falls
+
+
+def is_a_level(rooms, guests, level):
+    return all(room in guests and guests[room] >= level for room, own in enumerate(rooms) if own >= level)
+
+
+def levels_of(rooms, guests, kind):
+    return [level for level in range(1, kind + 1) if is_a_level(rooms, guests, level)]

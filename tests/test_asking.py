@@ -5,13 +5,17 @@ import random
 import unittest
 
 from nightbook.chances import chance_at, is_ladder, most_alike, rooms_from, tight
-from nightbook.errors import InnError, NoNumber, NoRoom, NoStay, Taken, TooFull
+from nightbook.errors import InnError, NoExchange, NoNumber, NoRoom, NoStay, NoWish, Taken, TooFull
+from nightbook.exchanges import exchanged, led
+from nightbook.ladder import admitted, is_fewest, is_full, movable
 from nightbook.plans import free_at, is_plan, row_of
+from nightbook.prices import best
 from nightbook.ratios import is_chance, is_ratio, minus, plus, ratio, times, total, under
 from nightbook.reach import is_shut, may_have, rooms_for
 from nightbook.seats import fewest, seated
 from nightbook.stretches import count_at, counts, fuller, holds, is_stretch, meets, most_at_once, shared
 from nightbook.tables import above, comers, least_rooms
+from nightbook.worth import bound_by, by_turns, cost, is_best, is_choice, worth_of
 
 STRETCHES = [(8, 9), (0, 3), (4, 6), (3, 5), (3, 5)]
 ROWS = [(2, (1, 3)), (1, (1, 2)), (4, (0, 1)), (1, (1, 1))]
@@ -20,6 +24,8 @@ RATIOS = [(3, 4), (-1, 2), (0, 1)]
 LADDER = [2, 0, 1]
 WISHED = [(0, 3, 1, (1, 2)), (2, 9, 3, (1, 1)), (2, 4, 1, (2, 3))]
 STAYS = [(0, 4, 1), (5, 7, None), (4, 6, None), (3, 5, 0)]
+WANTED = [(0, 2, 5), (0, 1, 3), (1, 3, 4), (1, 2, 2)]
+PRICES = [(0, 3), (2, 4)]
 FULL = [(0, 2, 0), (0, 3, 1), (2, 5, None), (3, 6, None)]
 
 ASKS = [
@@ -40,6 +46,15 @@ ASKS = [
     (may_have, (FULL, 2, 0, 3, 0)), (may_have, (FULL, 2, 0, 3, 1)), (may_have, (FULL, 4, 0, 2, 3)),
     (is_shut, (FULL, 2, 0, 3, 0, [2])), (is_shut, (FULL, 2, 0, 3, 1, [3])), (rooms_for, (FULL, 3, 0, 2)),
     (rooms_for, (STAYS, 3, 3, 1)),
+    (exchanged, (FULL, [0, 1, 0, 1], 0, 3, 1, 2)), (exchanged, ([], [], 0, 3, 1, 2)),
+    (exchanged, (FULL, [0, 1, 0, 1], 0, 6, 0, 1)),
+    (led, (FULL, 0, [0, 1, 0, 1], [0, 1, 2, 0])), (led, (FULL, 0, [0, 1, 0, 1], [0, 1, 0, 1])),
+    (best, (WANTED, [1, 2, 1])), (best, ([], [])), (is_choice, (WANTED, [1, 2, 1], [1, 2])), (cost, (PRICES, 0, 2)),
+    (is_best, (WANTED, [1, 2, 1], [0, 3], PRICES)), (bound_by, (WANTED, [1, 2, 1], PRICES)), (worth_of, (WANTED, [1, 3])),
+    (by_turns, (WANTED, [1, 2, 1])), (by_turns, ([], [])),
+    (admitted, ([1, 2, 3], {1: 1, 2: 2}, 3)), (admitted, ([1, 2, 3], {1: 2, 2: 3}, 3)), (admitted, ([1], {}, 1)),
+    (is_fewest, ([1, 2, 3], {1: 1, 2: 2}, 3, [(1, 0), (2, 1)], [3, 2, 1])), (is_full, ([1, 2], {1: 2}, 2, 2)),
+    (movable, ([1, 2, 3], {1: 1, 2: 2})), (movable, ([], {})),
 ]
 REFUSED = [
     (NoNumber, ratio, (1, 0)), (NoNumber, ratio, ("1", 2)), (NoNumber, ratio, (True,)), (NoNumber, ratio, (1, None)),
@@ -47,6 +62,9 @@ REFUSED = [
     (NoStay, is_plan, (FULL + [None], 2, 0, [0])), (Taken, is_plan, (FULL + [(0, 1, 1)], 2, 0, [])),
     (NoStay, may_have, (FULL, 2, 0, 0, 0)), (NoRoom, may_have, (FULL, 2, 0, 2, 2)), (NoStay, rooms_for, (FULL, 2, 0, 4)),
     (NoRoom, is_shut, (FULL, 2, 0, 2, -1, [])), (TooFull, rooms_for, ([(1, 2, None)] * 2, 1, 0, 0)),
+    (NoExchange, exchanged, (FULL, [0, 1, 0, 1], 0, 1, 0, 2)), (NoExchange, exchanged, (FULL, [0, 1, 0, 1], 0, 6, 2, 2)),
+    (NoWish, best, (WANTED, [1, 2])), (NoWish, is_choice, (WANTED, [1, 2], [])), (NoWish, by_turns, (WANTED, [])),
+    (NoWish, is_best, (WANTED, [1, 2], [], [])), (NoWish, bound_by, (WANTED, [1, 2], PRICES)),
 ]
 
 
