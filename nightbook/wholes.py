@@ -6,6 +6,10 @@ def is_whole(thing):
     return isinstance(thing, int) and not isinstance(thing, bool)
 
 
+def is_whole_within(thing, least, most):
+    return is_whole(thing) and least <= thing <= most
+
+
 def all_whole(things):
     return all([is_whole(thing) for thing in things])
 

@@ -2,6 +2,17 @@
 
 from itertools import product
 
+from nightbook.errors import InnError
+
+
+def refusal(call, *things):
+    """("told", what is told), or the name of the refusal and its value."""
+    try:
+        told = call(*things)
+    except InnError as error:
+        return (type(error).__name__, list(vars(error).values())[0])
+    return ("told", told)
+
 
 def nights(stay):
     return set(range(stay[0], stay[1]))
@@ -177,3 +188,77 @@ def is_a_level(rooms, guests, level):
 
 def levels_of(rooms, guests, kind):
     return [level for level in range(1, kind + 1) if is_a_level(rooms, guests, level)]
+
+
+def rooms_of_group(group, start):
+    return set(range(start, start + group[2]))
+
+
+def are_places(held, groups, places):
+    if type(places) is not list or len(places) != len(groups) or not all(is_int(start) for start in places):
+        return False
+    for group, start in zip(groups, places):
+        own = rooms_of_group(group, start)
+        if not own <= set(range(len(held))) or any(held[room] > group[0] for room in own):
+            return False
+    for place, group in enumerate(groups):
+        for other in range(place):
+            common = rooms_of_group(group, places[place]) & rooms_of_group(groups[other], places[other])
+            if common and nights(group) & nights(groups[other]):
+                return False
+    return True
+
+
+def all_places(held, groups):
+    """All places of the groups, by going through all lists of first rooms."""
+    return [list(starts) for starts in product(range(len(held)), repeat=len(groups))
+            if are_places(held, groups, list(starts))]
+
+
+def in_turn(groups):
+    return sorted(range(len(groups)), key=lambda place: (groups[place][0], place))
+
+
+def rows_that_come(rows, group):
+    """The list behind a group, by the words: each row once, sorted."""
+    first, behind, many = group
+    found = set()
+    for row in rows:
+        for start in range(len(row)):
+            own = list(range(start, start + many))
+            if own[-1] < len(row) and all(row[room] <= first for room in own):
+                made = [0 if night <= first else night for night in row]
+                for room in own:
+                    made[room] = behind
+                found.add(tuple(made))
+    return sorted(found)
+
+
+def lists_by_words(held, groups):
+    """The lists behind the groups up to the first empty one, each whole; and how many groups made more than 400 rows."""
+    lists, rows = [], [tuple(held)]
+    for number, place in enumerate(in_turn(groups), start=1):
+        rows = rows_that_come(rows, groups[place])
+        lists.append(rows)
+        if len(rows) > 400:
+            return lists, number
+        if not rows:
+            break
+    return lists, None
+
+
+def leads_to_nothing(held, groups, lists):
+    if type(lists) is not list or not 1 <= len(lists) <= len(groups):
+        return False
+    for rows in lists:
+        if type(rows) is not list:
+            return False
+        for row in rows:
+            if type(row) is not tuple or len(row) != len(held) or not all(is_int(night) for night in row):
+                return False
+    ahead = [tuple(held)]
+    for place, rows in zip(in_turn(groups), lists):
+        if not set(rows_that_come(ahead, groups[place])) <= set(rows):
+            return False
+        ahead = rows
+    return lists[-1] == []

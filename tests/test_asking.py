@@ -5,16 +5,19 @@ import random
 import unittest
 
 from nightbook.chances import chance_at, is_ladder, most_alike, rooms_from, tight
-from nightbook.errors import InnError, NoExchange, NoNumber, NoRoom, NoStay, NoWish, Taken, TooFull
+from nightbook.errors import InnError, NoExchange, NoNumber, NoRoom, NoStay, NoWish, Taken, TooFull, TooMany
 from nightbook.exchanges import exchanged, led
+from nightbook.house import is_name
 from nightbook.ladder import admitted, is_fewest, is_full, movable
 from nightbook.plans import free_at, is_plan, row_of
 from nightbook.prices import best
 from nightbook.ratios import is_chance, is_ratio, minus, plus, ratio, times, total, under
 from nightbook.reach import is_shut, may_have, rooms_for
 from nightbook.seats import fewest, seated
+from nightbook.sides import is_laid, is_none, laid
 from nightbook.stretches import count_at, counts, fuller, holds, is_stretch, meets, most_at_once, shared
 from nightbook.tables import above, comers, least_rooms
+from nightbook.widths import least_wide, row_at
 from nightbook.worth import bound_by, by_turns, cost, is_best, is_choice, worth_of
 
 STRETCHES = [(8, 9), (0, 3), (4, 6), (3, 5), (3, 5)]
@@ -26,6 +29,7 @@ WISHED = [(0, 3, 1, (1, 2)), (2, 9, 3, (1, 1)), (2, 4, 1, (2, 3))]
 STAYS = [(0, 4, 1), (5, 7, None), (4, 6, None), (3, 5, 0)]
 WANTED = [(0, 2, 5), (0, 1, 3), (1, 3, 4), (1, 2, 2)]
 PRICES = [(0, 3), (2, 4)]
+GROUPS = [(0, 2, 1), (1, 3, 2)]
 FULL = [(0, 2, 0), (0, 3, 1), (2, 5, None), (3, 6, None)]
 
 ASKS = [
@@ -55,6 +59,10 @@ ASKS = [
     (admitted, ([1, 2, 3], {1: 1, 2: 2}, 3)), (admitted, ([1, 2, 3], {1: 2, 2: 3}, 3)), (admitted, ([1], {}, 1)),
     (is_fewest, ([1, 2, 3], {1: 1, 2: 2}, 3, [(1, 0), (2, 1)], [3, 2, 1])), (is_full, ([1, 2], {1: 2}, 2, 2)),
     (movable, ([1, 2, 3], {1: 1, 2: 2})), (movable, ([], {})),
+    (is_name, ("ann",)), (is_name, (["ann"],)), (laid, ([0, 4, 0], [(2, 5, 2)])), (laid, ([0, 4, 0], [(4, 6, 2)])),
+    (laid, ([0, 0], GROUPS)), (laid, ([0, 0], [])), (is_laid, ([0, 0, 0], GROUPS, [0, 1])),
+    (is_none, ([0, 0], GROUPS, [[(0, 2), (2, 0)], []])), (least_wide, (GROUPS,)), (least_wide, ([],)),
+    (least_wide, ([(0, 3, 4), (2, 5, 3)],)), (row_at, (3, GROUPS, [0, 1], 1)),
 ]
 REFUSED = [
     (NoNumber, ratio, (1, 0)), (NoNumber, ratio, ("1", 2)), (NoNumber, ratio, (True,)), (NoNumber, ratio, (1, None)),
@@ -65,6 +73,9 @@ REFUSED = [
     (NoExchange, exchanged, (FULL, [0, 1, 0, 1], 0, 1, 0, 2)), (NoExchange, exchanged, (FULL, [0, 1, 0, 1], 0, 6, 2, 2)),
     (NoWish, best, (WANTED, [1, 2])), (NoWish, is_choice, (WANTED, [1, 2], [])), (NoWish, by_turns, (WANTED, [])),
     (NoWish, is_best, (WANTED, [1, 2], [], [])), (NoWish, bound_by, (WANTED, [1, 2], PRICES)),
+    (NoWish, laid, ([0], GROUPS + [None])), (NoWish, least_wide, (GROUPS + [(0, 1, 7)],)),
+    (NoWish, is_laid, ([0], GROUPS + [[]], [])), (NoWish, is_none, ([0], [()], [])),
+    (TooMany, laid, ([0] * 6, [(0, 50 + place, 1) for place in range(6)])),
 ]
 
 

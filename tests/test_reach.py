@@ -2,21 +2,12 @@ import random
 import unittest
 from itertools import combinations
 
-from nightbook.errors import NoRoom, NoStay, Taken, TooFull
 from nightbook.reach import is_shut, may_have, rooms_for
 from tests.oddities import NO_WHOLES
-from tests.papers import all_plans, beginning, is_a_plan, random_stays, shuts
+from tests.papers import all_plans, beginning, is_a_plan, random_stays, refusal, shuts
 
 FAR = 10 ** 299
 HOUSE = [(0, 4, 0), (2, 6, 1), (4, 6, None), (6, 8, None), (4, 9, None)]
-
-
-def refusal(call, *things):
-    try:
-        told = call(*things)
-    except (NoStay, Taken, TooFull, NoRoom) as error:
-        return (type(error).__name__, list(vars(error).values())[0])
-    return ("told", told)
 
 
 class PaperTest(unittest.TestCase):

@@ -5,17 +5,9 @@ from nightbook.errors import NoStay, Taken, TooFull
 from nightbook.plans import is_plan
 from nightbook.seats import fewest, seated
 from tests.oddities import NO_WHOLES
-from tests.papers import is_a_plan, nights, random_stays
+from tests.papers import is_a_plan, nights, random_stays, refusal
 
 FAR = 10 ** 299
-
-
-def refusal(call, *things):
-    try:
-        told = call(*things)
-    except (NoStay, Taken, TooFull) as error:
-        return (type(error).__name__, list(vars(error).values())[0])
-    return ("told", told)
 
 
 class SeatedTest(unittest.TestCase):

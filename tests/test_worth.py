@@ -144,6 +144,8 @@ class IsBestTest(unittest.TestCase):
         self.assertIs(is_best([], [0, 0], [], [(0, 0)]), False)
         self.assertIs(is_best([], [0, 0], [], [(0, -1)]), False)
         self.assertIs(is_best([], [0, 0], [], [(0, 1), (1, FAR)]), True)
+        self.assertIs(is_best([], [0, 0], [], [(-1, 1)]), False)
+        self.assertIs(is_best([], [0, 0], [], [(2, 1)]), False)
         self.assertIs(is_best([], [], [], []), True)
 
     def test_things_of_every_other_kind(self):
