@@ -5,7 +5,7 @@ import random
 import unittest
 
 from nightbook.chances import chance_at, is_ladder, most_alike, rooms_from, tight
-from nightbook.errors import InnError, NoExchange, NoNumber, NoRoom, NoStay, NoWish, Taken, TooFull, TooMany
+from nightbook.errors import InnError, NoExchange, NoNumber, NoRoom, NoStay, NoText, NoWish, Taken, TooFull, TooMany
 from nightbook.exchanges import exchanged, led
 from nightbook.house import is_name
 from nightbook.ladder import admitted, is_fewest, is_full, movable
@@ -17,6 +17,7 @@ from nightbook.seats import fewest, seated
 from nightbook.sides import is_laid, is_none, laid
 from nightbook.stretches import count_at, counts, fuller, holds, is_stretch, meets, most_at_once, shared
 from nightbook.tables import above, comers, least_rooms
+from nightbook.texts import read_nights, read_number, read_ratio, shown_nights, shown_ratio
 from nightbook.widths import least_wide, row_at
 from nightbook.worth import bound_by, by_turns, cost, is_best, is_choice, worth_of
 
@@ -63,6 +64,8 @@ ASKS = [
     (laid, ([0, 0], GROUPS)), (laid, ([0, 0], [])), (is_laid, ([0, 0, 0], GROUPS, [0, 1])),
     (is_none, ([0, 0], GROUPS, [[(0, 2), (2, 0)], []])), (least_wide, (GROUPS,)), (least_wide, ([],)),
     (least_wide, ([(0, 3, 4), (2, 5, 3)],)), (row_at, (3, GROUPS, [0, 1], 1)),
+    (read_number, ("12",)), (read_ratio, ("1/20",)), (read_nights, ("3-7",)), (shown_ratio, ((1, 20),)),
+    (shown_nights, ((3, 7),)),
 ]
 REFUSED = [
     (NoNumber, ratio, (1, 0)), (NoNumber, ratio, ("1", 2)), (NoNumber, ratio, (True,)), (NoNumber, ratio, (1, None)),
@@ -76,6 +79,7 @@ REFUSED = [
     (NoWish, laid, ([0], GROUPS + [None])), (NoWish, least_wide, (GROUPS + [(0, 1, 7)],)),
     (NoWish, is_laid, ([0], GROUPS + [[]], [])), (NoWish, is_none, ([0], [()], [])),
     (TooMany, laid, ([0] * 6, [(0, 50 + place, 1) for place in range(6)])),
+    (NoText, read_number, ("012",)), (NoText, read_ratio, ("2/4",)), (NoText, read_nights, (["3-7"],)),
 ]
 
 

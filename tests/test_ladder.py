@@ -136,6 +136,12 @@ class IsFewestTest(unittest.TestCase):
         self.assertIs(is_fewest([1, 1, 2, 2], {2: 1, 3: 1, 0: 1}, 2, [(0, 1)], [2, 1]), False)
         self.assertIs(is_fewest([1, 1, 2, 2], {2: 1, 3: 1, 0: 1}, 2, [(3, 1)], [2, 1]), True)
 
+    def test_a_move_into_a_lesser_room_than_wished(self):
+        self.assertIs(is_fewest([1, 2, 2], {1: 1, 2: 2}, 2, [(1, 0)], [2, 1]), True)
+        self.assertIs(is_fewest([1, 2, 2], {1: 1, 2: 2}, 2, [(2, 0)], [2, 1]), False)
+        self.assertIs(is_fewest([2, 3, 4], {1: 2, 2: 3}, 4, [(1, 0), (2, 1)], [4, 3, 2]), True)
+        self.assertIs(is_fewest([2, 3, 4, 4], {1: 2, 2: 3, 3: 4}, 4, [(1, 0), (3, 1)], [4, 3, 2]), False)
+
     def test_where_it_is_full_nothing_is(self):
         for moves, falls in [([], [1]), ([], []), ([(0, 0)], [1, 1]), (None, None), ([], None), (None, [1])]:
             self.assertIs(is_fewest([1], {0: 1}, 1, moves, falls), False)
