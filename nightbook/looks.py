@@ -76,8 +76,6 @@ def wanted(book, kind):
 
 
 def waits_for(book, name, kind):
-    if name not in book.names():
-        return False
     state = book.state(name)
     return state[0] == "waits" and state[1] == kind
 
@@ -109,10 +107,11 @@ def best_of_line(book, kind, pairs):
     check_kind(book, kind)
     check_pairs(book, kind, pairs)
     free = free_ahead(book, kind)
-    near = [pair for pair in pairs if wish_ahead(book, pair[0], pair[1])[1] <= len(free)]
+    tonight = book.tonight()
+    near = [(name, worth) for name, worth in pairs if nights_in_book(book, name)[1] <= tonight + len(free)]
     told = best([wish_ahead(book, name, worth) for name, worth in near], free)
     names = [near[place][0] for place in told[1]]
-    return (told[0], names, [(book.tonight() + night, price) for night, price in told[2]])
+    return (told[0], names, [(tonight + night, price) for night, price in told[2]])
 
 
 def check_each(book, names):

@@ -1,13 +1,12 @@
 """How many rooms side by side some groups need, and who is where on a night."""
 
-from nightbook.sides import check_groups, laid
+from nightbook.sides import laid
 from nightbook.stretches import holds, nights_of
 
 MOST_WIDE = 6
 
 
 def least_wide(groups):
-    check_groups(groups)
     if len(groups) == 0:
         return ("wide", 0, [], [])
     lists = []

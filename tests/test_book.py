@@ -232,6 +232,10 @@ class DeedsTest(unittest.TestCase):
         for call in (book.withdraw, book.come, book.absent, book.go, book.state, book.room_of):
             for name in ("zoe", "", "Ann", "no name"):
                 self.assertEqual(refusal(call, name), ("NoGuest", name))
+            for thing in NO_WHOLES:
+                error, value = refusal(call, thing)
+                self.assertEqual(error, "NoGuest")
+                self.assertIs(value, thing)
         self.assertEqual(refusal(book.shorten, "zoe", 0, 1), ("NoGuest", "zoe"))
         for call in (book.withdraw, book.come, book.absent):
             self.assertEqual(refusal(call, "ann"), ("InHouse", "ann"))

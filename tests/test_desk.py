@@ -11,7 +11,7 @@ from tests.witness import NAMES, Witness, done_by, random_deed
 
 ONE_NAME = ["withdraw", "absent", "go", "come", "state", "room", "may"]
 ALONE = ["close", "tonight", "names", "house", "line", "story"]
-NO_NAMES = ["", "Ann", "a1", "abcdefghi", "1", "an-n", "a.b", "a\n", "/"]
+NO_NAMES = ["", "Ann", "a1", "abcdefghi", "1", "an-n", "a.b", "a\n", "/", "3-7", "1/2", "0"]
 NO_NUMBERS = ["", "01", "-1", "+1", "a", "1.0", "12345678901", "1/2", "3-7", "00"]
 NO_RATIOS = ["", "2/4", "1/1", "0/2", "a", "-1", "1/", "/2", "1/02", "1/2/3", "3-7", "0.5"]
 NO_NIGHTS = ["", "3", "3-", "-7", "3-07", "3--7", "a-b", "3/7", "1-2-3", "3_7"]
@@ -183,7 +183,8 @@ class NoRowTest(unittest.TestCase):
                 self.refused(row)
 
     def test_the_word_risk(self):
-        for row in ["inn 1 Risk 1/2", "inn 1 risks 1/2", "inn 1 2 1/2", "inn 1 2 3", "inn risk 1 1/2", "inn 1 risk risk"]:
+        for row in ["inn 1 Risk 1/2", "inn 1 risks 1/2", "inn 1 2 1/2", "inn 1 2 3", "inn risk 1 1/2", "inn 1 risk risk",
+                    "inn 1 3-7 1/2", "inn 1 2 3-7 1/2", "inn 1 1/2 1/2", "inn 1 ann 1/2"]:
             self.refused(row)
 
 

@@ -152,6 +152,11 @@ class RefusedTest(unittest.TestCase):
         for name in ["cid", "", "Ann", "abcdefghijk"]:
             for call in (self.house.out, self.house.room_of, self.house.kind_of):
                 self.assertEqual(refusal(call, name), ("NoGuest", name))
+        for thing in NO_WHOLES:
+            for call in (self.house.out, self.house.room_of, self.house.kind_of):
+                error, value = refusal(call, thing)
+                self.assertEqual(error, "NoGuest")
+                self.assertIs(value, thing)
 
     def test_made_good_it_is_taken(self):
         house = House([1])

@@ -301,11 +301,12 @@ class TogetherTest(unittest.TestCase):
         self.assertEqual(refusal(together, book, ["ann"]), ("TooMany", 5))
         self.assertEqual(together(book, NAMES[:6])[0], "laid")
 
-    def test_somewhat_beyond_six_names(self):
+    def test_somewhat_beyond_one_to_six_names(self):
         book = Book([6], (1, 1))
         for name in NAMES[:7]:
             book.wish(name, 1, 2, 5)
         self.assertEqual(together(book, NAMES[:7]), ("none", [[]]))
+        self.assertEqual(together(book, []), ("laid", []))
 
 
 class SeasonTest(unittest.TestCase):

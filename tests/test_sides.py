@@ -103,6 +103,17 @@ class LaidTest(unittest.TestCase):
         self.assertEqual(self.look(held, single[:4]), "laid")
         self.assertEqual(refusal(laid, held, single + [(0, 1, 6)]), ("TooMany", 5))
 
+    def test_just_about_400_rows(self):
+        held, groups = [0, 0, 2, 0, 0, 0], [(0, 7, 2), (2, 8, 1), (3, 15, 1), (5, 13, 1), (7, 11, 1), (7, 17, 1)]
+        self.assertEqual(len(lists_by_words(held, groups)[0][-1]), 396)
+        self.assertEqual(self.look(held, groups), "laid")
+        held, groups = [0, 3, 0, 0, 0, 0], [(0, 7, 1), (1, 8, 1), (3, 5, 2), (4, 9, 1), (5, 17, 1), (5, 15, 1)]
+        self.assertEqual(len(lists_by_words(held, groups)[0][-1]), 408)
+        self.assertEqual(refusal(laid, held, groups), ("TooMany", 6))
+        # Far more rooms than an inn has: only so the list has just as many rows as are kept, and one more.
+        self.assertEqual(self.look([0] * 400, [(0, 1, 1)]), "laid")
+        self.assertEqual(refusal(laid, [0] * 401, [(0, 1, 1)]), ("TooMany", 1))
+
     def test_lists_behind_an_empty_one_are_not_looked_at(self):
         held, single = [0] * 6, [(0, 50 + place, 1) for place in range(3)]
         more = [(1, 50 + place, 1) for place in range(3)]

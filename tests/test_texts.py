@@ -104,6 +104,13 @@ class ShownTest(unittest.TestCase):
                 if many <= 300:
                     self.assertEqual(shown_nights((number, 0)), figures(number) + "-0")
 
+    def test_all_figures_stand_in_their_order(self):
+        number = 0
+        for place in range(700):
+            number = number * 10 + (place * place * 7 + place + 1) % 10
+            self.assertEqual(shown_ratio((number, 1)), figures(number))
+            self.assertEqual(shown_nights((number, 10 ** 18 + place)), figures(number) + "-" + figures(10 ** 18 + place))
+
     def test_what_is_read_is_shown_by_the_same_text(self):
         for text in ["0", "1", "10", "1/2", "3/2", "99/100", "9999999999", "9999999999/10", "7/9999999998"]:
             self.assertEqual(shown_ratio(read_ratio(text)), text)
