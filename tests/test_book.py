@@ -418,7 +418,8 @@ class SeasonTest(unittest.TestCase):
             found = self.go_on(source, ladder, risk, 100)
             for word, many in found.items():
                 seen[word] = seen.get(word, 0) + many
-        words = ["told", "NoStretch", "NoKind", "Stands", "NoGuest", "InHouse", "NotTonight", "waits", "taken", "withdrawn",
+        words = ["told", "NoStretch", "NoKind", "Stands", "NoGuest", "InHouse", "NotTonight", "waits", "taken",
+                 "withdrawn",
                  "shorter", "in", "away", "absent", "gone", "left", "late", "moved"]
         self.assertEqual([word for word in words if seen.get(word, 0) < 5], [], seen)
 

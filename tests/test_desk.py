@@ -35,11 +35,13 @@ class AnswersTest(unittest.TestCase):
         return desk
 
     def test_inn(self):
-        for row in ["inn 1 risk 0", "inn 0 risk 1", "inn 12 risk 1/20", "inn 1 2 3 risk 1/1000000000", "inn 3 3 3 3 risk 1/2"]:
+        for row in ["inn 1 risk 0", "inn 0 risk 1", "inn 12 risk 1/20", "inn 1 2 3 risk 1/1000000000",
+                    "inn 3 3 3 3 risk 1/2"]:
             self.check((row, "ok"))
 
     def test_a_new_inn_drops_the_one_ahead(self):
-        desk = self.check(("inn 1 risk 0", "ok"), ("wish ann 1 0-3", "taken"), ("close", "absent ann, left, late, taken"),
+        desk = self.check(("inn 1 risk 0", "ok"), ("wish ann 1 0-3", "taken"),
+                          ("close", "absent ann, left, late, taken"),
                           ("inn 2 risk 0", "ok"), ("names", ""), ("tonight", "0"), ("story", ""))
         self.assertEqual(desk.say("wish ann 1 0-3"), "taken")
 
@@ -72,7 +74,8 @@ class AnswersTest(unittest.TestCase):
     def test_close(self):
         self.check(("inn 1 risk 0", "ok"), ("close", "absent, left, late, taken"), ("wish ann 1 1-2", "taken"),
                    ("wish bob 1 1-4", "waits"), ("wish cid 1 1-2", "waits"), ("wish dot 1 2-3", "taken"),
-                   ("close", "absent ann, left, late bob cid, taken"), ("come dot", "in 0"), ("wish eve 1 2-3", "waits"),
+                   ("close", "absent ann, left, late bob cid, taken"), ("come dot", "in 0"),
+                   ("wish eve 1 2-3", "waits"),
                    ("wish fay 1 3-5", "taken"), ("wish gus 1 4-5", "waits"), ("wish hal 1 3-4", "waits"),
                    ("close", "absent, left dot, late eve, taken"), ("close", "absent fay, left, late hal, taken gus"),
                    ("tonight", "4"), ("names", "gus"), ("state gus", "taken 1 4-5 1"))
@@ -80,13 +83,15 @@ class AnswersTest(unittest.TestCase):
     def test_story_and_lists(self):
         self.check(("inn 1 risk 0", "ok"), ("names", ""), ("house", ""), ("line", ""), ("story", ""), ("tonight", "0"),
                    ("wish ann 1 0-2", "taken"), ("wish bob 1 1-3 1/2", "waits"), ("wish cid 1 1-4", "waits"),
-                   ("line", "bob 1 1 1/2, cid 1 1 1"), ("come ann", "in 0"), ("house", "ann 0"), ("names", "ann bob cid"),
+                   ("line", "bob 1 1 1/2, cid 1 1 1"), ("come ann", "in 0"), ("house", "ann 0"),
+                   ("names", "ann bob cid"),
                    ("story", "0 taken ann, 0 waits bob, 0 waits cid, 0 in ann"), ("state ann", "house 1 0-2 1"),
                    ("close", "absent, left, late, taken"), ("go ann", "ok bob"),
                    ("story", "0 taken ann, 0 waits bob, 0 waits cid, 0 in ann, 1 gone ann, 1 taken bob"))
 
     def test_may_and_wanted(self):
-        self.check(("inn 1 2 risk 1", "ok"), ("wanted 1", "0 at 0"), ("wish zoe 1 0-9", "taken"), ("wish ann 2 0-2", "taken"),
+        self.check(("inn 1 2 risk 1", "ok"), ("wanted 1", "0 at 0"), ("wish zoe 1 0-9", "taken"),
+                   ("wish ann 2 0-2", "taken"),
                    ("wish bob 2 0-3", "taken"), ("come zoe", "in 0"), ("come ann", "in 1"), ("come bob", "in 2"),
                    ("wish cid 2 2-5", "taken"), ("wish dot 2 3-6", "taken"), ("may cid", "1"), ("may dot", "2"),
                    ("wanted 2", "2 at 0"), ("withdraw cid", "ok"), ("may dot", "1 2"), ("wanted 1", "1 at 0"))
@@ -94,18 +99,21 @@ class AnswersTest(unittest.TestCase):
     def test_best(self):
         self.check(("inn 0 risk 0", "ok"), ("best 1", "0 for"), ("wish ann 1 3-4", "waits"), ("best 1 ann 0", "0 for"),
                    ("best 1 ann 5", "0 for, 3 at 5"), ("best 1", "0 for"))
-        self.check(("inn 1 1 risk 0", "ok"), ("wish zoe 1 0-1", "taken"), ("wish bob 1 0-9", "taken"), ("come zoe", "in 0"),
+        self.check(("inn 1 1 risk 0", "ok"), ("wish zoe 1 0-1", "taken"), ("wish bob 1 0-9", "taken"),
+                   ("come zoe", "in 0"),
                    ("come bob", "in 1"), ("go zoe", "ok"), ("wish ann 2 0-9", "taken"), ("wish cid 1 2-3", "waits"),
                    ("wish dot 1 3-4", "waits"), ("wish eve 1 3-4", "waits"), ("best 1 cid 9 dot 0", "9 for cid"),
                    ("best 1 dot 5 cid 9 eve 5", "14 for dot cid, 3 at 5"))
 
     def test_together(self):
-        self.check(("inn 1 3 risk 1", "ok"), ("wish ann 2 0-4", "taken"), ("come ann", "in 1"), ("wish bob 2 1-3", "taken"),
+        self.check(("inn 1 3 risk 1", "ok"), ("wish ann 2 0-4", "taken"), ("come ann", "in 1"),
+                   ("wish bob 2 1-3", "taken"),
                    ("wish cid 2 1-5", "taken"), ("together bob cid", "laid bob 2 cid 3"),
                    ("together cid bob", "laid cid 2 bob 3"))
         self.check(("inn 2 risk 1", "ok"), ("wish ann 1 3-5", "taken"), ("wish bob 1 3-5", "taken"),
                    ("wish cid 1 0-4", "taken"), ("together ann bob", "none / 0.4 4.0 /"))
-        self.check(("inn 2 risk 1", "ok"), ("wish ann 1 0-4", "taken"), ("come ann", "in 0"), ("wish bob 1 3-5", "taken"),
+        self.check(("inn 2 risk 1", "ok"), ("wish ann 1 0-4", "taken"), ("come ann", "in 0"),
+                   ("wish bob 1 3-5", "taken"),
                    ("wish cid 1 3-6", "taken"), ("together cid bob", "none /"), ("together cid", "none / 4.6 /"))
 
     def test_six_names_side_by_side(self):
@@ -134,7 +142,8 @@ class NoRowTest(unittest.TestCase):
                 self.refused(row)
 
     def test_no_row_of_these(self):
-        for row in ["", " ", "x", "Close", "CLOSE", "closes", "wishes ann 1 0-3", "ann", "1", "risk 1/2", "inns 1 risk 0",
+        for row in ["", " ", "x", "Close", "CLOSE", "closes", "wishes ann 1 0-3", "ann", "1", "risk 1/2",
+                    "inns 1 risk 0",
                     "close\n", "\nclose", "close\t", "seats 1", "seats_of 1", "may_still ann", "room_of ann", "ok", "taken"]:
             self.refused(row)
 
@@ -152,8 +161,10 @@ class NoRowTest(unittest.TestCase):
         for word in ALONE:
             for row in [word + " ann", word + " 1", word + " " + word]:
                 self.refused(row)
-        for row in ["wish", "wish ann", "wish ann 1", "wish ann 1 0-3 1/2 1/2", "shorten", "shorten ann", "shorten ann 0-1 1",
-                    "wanted", "wanted 1 2", "best", "best 1 ann", "best 1 ann 3 bob", "together", "inn", "inn risk", "inn 1",
+        for row in ["wish", "wish ann", "wish ann 1", "wish ann 1 0-3 1/2 1/2", "shorten", "shorten ann",
+                    "shorten ann 0-1 1",
+                    "wanted", "wanted 1 2", "best", "best 1 ann", "best 1 ann 3 bob", "together", "inn", "inn risk",
+                    "inn 1",
                     "inn risk 1/2", "inn 1 risk", "inn 1 2 3 4 5 risk 1/2", "inn 1 risk 1/2 1/2", "inn 1 2 3 4 risk",
                     "together " + " ".join(NAMES[:7]), "best 1" + " ann 1" * 17]:
             self.refused(row)
@@ -183,7 +194,8 @@ class NoRowTest(unittest.TestCase):
                 self.refused(row)
 
     def test_the_word_risk(self):
-        for row in ["inn 1 Risk 1/2", "inn 1 risks 1/2", "inn 1 2 1/2", "inn 1 2 3", "inn risk 1 1/2", "inn 1 risk risk",
+        for row in ["inn 1 Risk 1/2", "inn 1 risks 1/2", "inn 1 2 1/2", "inn 1 2 3", "inn risk 1 1/2",
+                    "inn 1 risk risk",
                     "inn 1 3-7 1/2", "inn 1 2 3-7 1/2", "inn 1 1/2 1/2", "inn 1 ann 1/2"]:
             self.refused(row)
 
@@ -192,7 +204,8 @@ class NoBookTest(unittest.TestCase):
     def test_ahead_of_every_inn(self):
         desk = Desk()
         rows = [f"{word} ann" for word in ONE_NAME] + ALONE
-        rows += ["wish ann 1 0-3", "wish ann 9 3-0 3/2", "shorten ann 0-1", "wanted 1", "wanted 9", "best 1", "best 9 ann 3",
+        rows += ["wish ann 1 0-3", "wish ann 9 3-0 3/2", "shorten ann 0-1", "wanted 1", "wanted 9", "best 1",
+                 "best 9 ann 3",
                  "together ann", "together ann ann"]
         for row in rows:
             self.assertRaises(NoBook, desk.say, row)
@@ -236,8 +249,10 @@ class RefusedTest(unittest.TestCase):
                 ("withdraw ann", ("InHouse", "ann")), ("shorten zoe 3-0", ("NoGuest", "zoe")),
                 ("shorten ann 1-3", ("NoStretch", "ann")), ("shorten bob 0-3", ("NoStretch", "bob")),
                 ("shorten bob 3-1", ("NoStretch", "bob")), ("come zoe", ("NoGuest", "zoe")),
-                ("come ann", ("InHouse", "ann")), ("come bob", ("NotTonight", "bob")), ("absent zoe", ("NoGuest", "zoe")),
-                ("absent ann", ("InHouse", "ann")), ("absent gus", ("NotTonight", "gus")), ("go zoe", ("NoGuest", "zoe")),
+                ("come ann", ("InHouse", "ann")), ("come bob", ("NotTonight", "bob")),
+                ("absent zoe", ("NoGuest", "zoe")),
+                ("absent ann", ("InHouse", "ann")), ("absent gus", ("NotTonight", "gus")),
+                ("go zoe", ("NoGuest", "zoe")),
                 ("go bob", ("NotTonight", "bob")), ("state zoe", ("NoGuest", "zoe")), ("room bob", ("NoGuest", "bob")),
                 ("room zoe", ("NoGuest", "zoe")), ("may zoe", ("NoGuest", "zoe")), ("may ann", ("NotTaken", "ann")),
                 ("may gus", ("NotTaken", "gus")), ("may bob", ("TooFull", 1)), ("wanted 0", ("NoKind", 0)),
@@ -285,8 +300,10 @@ class OwnTest(unittest.TestCase):
         self.assertEqual((one.say("tonight"), other.say("tonight")), ("0", "1"))
 
     def test_asking_changes_nothing(self):
-        rows = ["inn 2 1 risk 1/4", "wish ann 1 0-3", "wish bob 2 0-9 1/2", "wish cid 1 1-4", "wish dot 1 1-4", "come ann"]
-        asks = ["tonight", "names", "state ann", "room ann", "house", "line", "story", "may cid", "wanted 1", "best 1 dot 5",
+        rows = ["inn 2 1 risk 1/4", "wish ann 1 0-3", "wish bob 2 0-9 1/2", "wish cid 1 1-4", "wish dot 1 1-4",
+                "come ann"]
+        asks = ["tonight", "names", "state ann", "room ann", "house", "line", "story", "may cid", "wanted 1",
+                "best 1 dot 5",
                 "together cid", "room zoe", "x", "inn 13 risk 0", "may ann"]
         desk, answer = said(rows)
         first = [refusal(desk.say, ask) for ask in asks]
@@ -432,7 +449,8 @@ class SeasonTest(unittest.TestCase):
         for turn in range(60):
             ladder = source.choice([[1], [2], [3, 2], [1, 2, 1], [0, 3], [6], [1, 1, 1, 1], [2, 2, 2, 2], [4, 4]])
             self.go_on(source, ladder, source.choice([(0, 1), (1, 20), (1, 2), (1, 7), (1, 1)]), 100, seen)
-        words = {"wish", "come", "withdraw", "shorten", "absent", "go", "close", "best", "free", "laid", "none", "NoGuest",
+        words = {"wish", "come", "withdraw", "shorten", "absent", "go", "close", "best", "free", "laid", "none",
+                 "NoGuest",
                  "NotTonight", "InHouse", "NoStretch", "NoKind", "Stands"}
         self.assertEqual(words - seen, set())
 

@@ -146,7 +146,8 @@ class RefusedTest(unittest.TestCase):
             error, value = refusal(self.house.let_in, "cid", thing)
             self.assertEqual(error, "NoKind")
             self.assertIs(value, thing)
-            self.assertEqual(refusal(self.house.let_in, thing, thing)[0], "NoKind" if thing.__class__ == str and thing == "a" else "NoName")
+            is_a_name = thing.__class__ == str and thing == "a"
+            self.assertEqual(refusal(self.house.let_in, thing, thing)[0], "NoKind" if is_a_name else "NoName")
 
     def test_who_is_not_in_the_house(self):
         for name in ["cid", "", "Ann", "abcdefghijk"]:

@@ -358,7 +358,8 @@ class SeasonTest(unittest.TestCase):
                 if step % 6 == 5:
                     self.look(source, book, witness, seen)
             look_at(self, book, witness)
-        words = {"best", "may", "laid", "none", "NoGuest", "NotTaken", "TooFull", "NoKind", "NoStretch", "NoWish", "TooMany"}
+        words = {"best", "may", "laid", "none", "NoGuest", "NotTaken", "TooFull", "NoKind", "NoStretch", "NoWish",
+                 "TooMany"}
         self.assertEqual(words - seen, set())
 
 

@@ -141,7 +141,8 @@ class RefusedTest(unittest.TestCase):
             self.assertEqual(refusal(call, held, groups, *more), ("NoWish", at))
 
     def test_no_groups(self):
-        for thing in [(0, 1), (0, 1, 0), (0, 1, 7), (0, 1, -1), (1, 1, 1), (2, 1, 1), (-1, 1, 1), (0, 401, 1), [0, 1, 1],
+        for thing in [(0, 1), (0, 1, 0), (0, 1, 7), (0, 1, -1), (1, 1, 1), (2, 1, 1), (-1, 1, 1), (0, 401, 1),
+                      [0, 1, 1],
                       (0, 1, 1, 1), (0, 1, FAR), (0, FAR, 1), (True, 2, 1), (0, True, 1), (0, 1, True), ((0, 1), 1), "x"]:
             self.each([0, 0], [thing], 0)
             self.each([0, 0], [(0, 1, 1), (0, 1, 6), thing, (1, 1, 1)], 2)
@@ -278,7 +279,8 @@ class IsNoneTest(unittest.TestCase):
         for thing in NO_WHOLES:
             self.assertIs(self.asked(thing), False, thing)
             self.assertIs(self.asked([thing]), False, thing)
-            self.assertIs(self.asked([[(0, 2), (2, 0), thing], []]), thing.__class__ == tuple and thing == (1, 2), thing)
+            self.assertIs(self.asked([[(0, 2), (2, 0), thing], []]), thing.__class__ == tuple and thing == (1, 2),
+                          thing)
             self.assertIs(self.asked([[(0, 2), (2, 0), (9, thing)], []]), False, thing)
             if thing.__class__ != list or len(thing):
                 self.assertIs(self.asked([[(0, 2), (2, 0)], thing]), False, thing)

@@ -5,7 +5,8 @@ from nightbook.errors import NoText
 from nightbook.texts import read_nights, read_number, read_ratio, shown_nights, shown_ratio
 from tests.oddities import NO_WHOLES
 
-NO_NUMBERS = ["", "00", "01", "007", "0000000000", "12345678901", "-1", "+1", " 1", "1 ", "1_0", "a", "1a", "1.0", "1e3",
+NO_NUMBERS = ["", "00", "01", "007", "0000000000", "12345678901", "-1", "+1", " 1", "1 ", "1_0", "a", "1a", "1.0",
+              "1e3",
               "0x1", "\n", "1\n", "--", "/", "1 2", "10000000000"]
 
 
@@ -52,7 +53,8 @@ class ReadRatioTest(unittest.TestCase):
             self.assertRaises(NoText, read_ratio, text)
 
     def test_others(self):
-        for text in NO_NUMBERS + ["1/", "/2", "1//2", "1/2/3", "01/2", "1/02", "1/ 2", " 1/2", "-1/2", "1/-2", "1/12345678901",
+        for text in NO_NUMBERS + ["1/", "/2", "1//2", "1/2/3", "01/2", "1/02", "1/ 2", " 1/2", "-1/2", "1/-2",
+                                  "1/12345678901",
                                   "3-7", "a/b"]:
             self.assertRaises(NoText, read_ratio, text)
 
@@ -74,7 +76,8 @@ class ReadNightsTest(unittest.TestCase):
             self.assertIs(type(read_nights(text)), tuple)
 
     def test_others(self):
-        for text in NO_NUMBERS + ["3", "0", "3-", "-7", "3--7", "3-7-9", "03-7", "3-07", "3 -7", "3- 7", "3/7", "a-b", "-",
+        for text in NO_NUMBERS + ["3", "0", "3-", "-7", "3--7", "3-7-9", "03-7", "3-07", "3 -7", "3- 7", "3/7", "a-b",
+                                  "-",
                                   "3-12345678901", "1/2-3"]:
             self.assertRaises(NoText, read_nights, text)
 
@@ -109,7 +112,8 @@ class ShownTest(unittest.TestCase):
         for place in range(700):
             number = number * 10 + (place * place * 7 + place + 1) % 10
             self.assertEqual(shown_ratio((number, 1)), figures(number))
-            self.assertEqual(shown_nights((number, 10 ** 18 + place)), figures(number) + "-" + figures(10 ** 18 + place))
+            self.assertEqual(shown_nights((number, 10 ** 18 + place)),
+                             figures(number) + "-" + figures(10 ** 18 + place))
 
     def test_what_is_read_is_shown_by_the_same_text(self):
         for text in ["0", "1", "10", "1/2", "3/2", "99/100", "9999999999", "9999999999/10", "7/9999999998"]:

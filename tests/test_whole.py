@@ -13,7 +13,8 @@ from nightbook.reach import is_shut, may_have, rooms_for
 from nightbook.seats import seated
 from nightbook.sides import is_laid, is_none, laid
 from nightbook.worth import bound_by, is_best
-from tests.papers import (all_places, all_plans, are_places, choices_of, is_a_plan, leads_to_nothing, nights, prices_hold,
+from tests.papers import (all_places, all_plans, are_places, choices_of, is_a_plan, leads_to_nothing, nights,
+                          prices_hold,
                           random_plan, random_stays, refusal, shuts)
 from tests.test_sides import random_groups
 from tests.test_worth import random_wishes
